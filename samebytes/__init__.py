@@ -1,0 +1,1 @@
+"""samebytes: one text for each graph of objects, also with parts without order."""

@@ -1,0 +1,76 @@
+"""Those rules of ../shared/LANGUAGE.md that are about sizes, characters, names and statements."""
+
+import ast
+import builtins
+import pathlib
+import unittest
+
+FOLDER = pathlib.Path(__file__).resolve().parent.parent / "samebytes"
+LIBRARY = {"heapq": {"heappush", "heappop", "heapify", "heapreplace", "heappushpop"},
+           "math": {"gcd", "lcm", "isqrt", "comb", "perm", "factorial"},
+           "itertools": {"product", "combinations", "permutations"}}
+BUILTINS = set("""len range enumerate zip min max sum abs sorted reversed int str bool bytes list tuple dict set frozenset
+    isinstance ord repr any all divmod iter next map property staticmethod classmethod super Exception ValueError
+    TypeError KeyError IndexError LookupError ZeroDivisionError ArithmeticError OverflowError RuntimeError
+    NotImplementedError AttributeError StopIteration NotImplemented""".split())
+NOT_ALLOWED = (ast.Global, ast.AsyncFunctionDef, ast.AsyncFor, ast.AsyncWith, ast.Await, ast.Import, ast.TryStar)
+
+
+def files():
+    return [(path, path.read_text(encoding="utf-8")) for path in sorted(FOLDER.glob("*.py"))]
+
+
+def bound_names(tree):
+    """All names that a file gives a meaning to."""
+    names = {node.id for node in ast.walk(tree) if isinstance(node, ast.Name) and not isinstance(node.ctx, ast.Load)}
+    names |= {node.arg for node in ast.walk(tree) if isinstance(node, ast.arg)}
+    names |= {node.name for node in ast.walk(tree) if isinstance(node, (ast.FunctionDef, ast.ClassDef))}
+    return names | {name.name for node in ast.walk(tree) if isinstance(node, ast.ImportFrom) for name in node.names}
+
+
+class TestLanguage(unittest.TestCase):
+
+    def test_the_folder_holds_python_files_alone(self):
+        names = [path.name for path in FOLDER.iterdir() if path.name != "__pycache__"]
+        self.assertIn("__init__.py", names)
+        self.assertEqual([name for name in names if not name.endswith(".py")], [])
+
+    def test_sizes_and_characters(self):
+        for path, text in files():
+            with self.subTest(path.name):
+                self.assertEqual([sign for sign in text if sign != "\n" and not " " <= sign <= "~"], [])
+                self.assertLessEqual(len(text.splitlines()), 399)
+                self.assertEqual([line for line in text.splitlines() if len(line) > 120], [])
+                for node in ast.walk(ast.parse(text)):
+                    if isinstance(node, ast.FunctionDef):
+                        self.assertLessEqual(node.end_lineno - node.lineno + 1, 40, node.name)
+
+    def test_imports(self):
+        for path, text in files():
+            for node in ast.walk(ast.parse(text)):
+                with self.subTest(path.name):
+                    self.assertNotIsInstance(node, NOT_ALLOWED)
+                    if isinstance(node, ast.ImportFrom):
+                        names = {name.name for name in node.names}
+                        self.assertEqual(node.level, 0)
+                        self.assertTrue(node.module.startswith("samebytes.") or names <= LIBRARY[node.module])
+
+    def test_names(self):
+        for path, text in files():
+            tree = ast.parse(text)
+            bound = bound_names(tree)
+            builtin = set(dir(builtins)) - {"_"}
+            read = {node.id for node in ast.walk(tree) if isinstance(node, ast.Name)}
+            methods = {item.name for node in tree.body if isinstance(node, ast.ClassDef)
+                       for item in node.body if isinstance(item, ast.FunctionDef)}
+            with self.subTest(path.name):
+                self.assertEqual((bound - methods) & builtin, set())
+                self.assertEqual((read - bound) & builtin - BUILTINS, set())
+
+    def test_module_level(self):
+        for path, text in files():
+            for node in ast.parse(text).body:
+                with self.subTest(path.name, line=node.lineno):
+                    docstring = isinstance(node, ast.Expr) and isinstance(node.value, ast.Constant)
+                    plain = (ast.ImportFrom, ast.FunctionDef, ast.ClassDef, ast.Assign)
+                    self.assertTrue(docstring or isinstance(node, plain))
