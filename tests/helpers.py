@@ -50,7 +50,7 @@ class Case(unittest.TestCase):
         self.assertEqual(told, wanted)
         self.assertEqual(repr(told), repr(wanted))
 
-    def assert_error(self, error, field, value, call, *args, **kwargs):
+    def assert_error(self, error, field, value, call, /, *args, **kwargs):
         """Assert that a call raises just this error, with this very value in its one field."""
         with self.assertRaises(GraphError) as caught:
             call(*args, **kwargs)
@@ -62,3 +62,21 @@ class Case(unittest.TestCase):
             self.assertTrue(told == value)
         else:
             self.assertIs(told, value)
+
+
+def rings(sizes, both=True, kind="set"):
+    """A graph with rings in a set: each object refers to the next one of its ring, and perhaps to the one before."""
+    things = {}
+    for number, size in enumerate(sizes):
+        marks = [f"{'abcdefghijkl'[number]}{index}" for index in range(size)]
+        for index, mark in enumerate(marks):
+            worths = [at(marks[(index + 1) % size]), at(marks[index - 1])]
+            parts = tuple(dict.fromkeys(worths if both else worths[:1]))
+            things[mark] = (kind, tuple((part, part) for part in parts) if kind == "dict" else parts)
+    return Graph("root", {"root": ("set", tuple(at(mark) for mark in things)), **things})
+
+
+def twins(number, thing=("list", ())):
+    """A graph whose root is a set of alike objects, as many as that."""
+    marks = [f"t{index}" for index in range(number)]
+    return Graph("root", {"root": ("set", tuple(at(mark) for mark in marks)), **dict.fromkeys(marks, thing)})

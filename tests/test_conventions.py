@@ -1,12 +1,16 @@
 """The conventions (2): where things are defined, and that nothing changes that is not to change."""
 
-from samebytes import graphs, objects
+import inspect
+
+from samebytes import colours, graphs, maps, objects, papers, texts
 from samebytes.errors import GraphError
 from samebytes.graphs import Graph
 from samebytes.objects import ordered, places, references, replaced
 from tests.helpers import Case, at
 
 LISTED = ["is_mark", "is_name", "is_plain", "is_worth", "is_object", "ordered", "references", "places", "replaced"]
+FURTHER = [(texts, ["write", "read"]), (maps, ["keeps", "then", "backwards"]), (colours, ["look_alike", "rounds", "classes"]),
+           (papers, ["is_same", "sameness", "difference", "check_difference", "every_map"])]
 METHODS = ["root", "marks", "objects", "walk", "referrers", "part", "renamed", "__init__", "__getitem__",
            "__contains__", "__len__", "__iter__", "__eq__", "__call__", "__sub__", "__add__"]
 
@@ -27,6 +31,14 @@ class TestWhereThingsAre(Case):
     def test_functions(self):
         for name in LISTED:
             self.assertEqual(vars(objects)[name].__module__, "samebytes.objects")
+
+    def test_functions_of_the_further_files(self):
+        for file, names in FURTHER:
+            for name in names:
+                self.assertEqual(vars(file)[name].__module__, file.__name__)
+
+    def test_every_map_is_a_generator(self):
+        self.assertTrue(inspect.isgeneratorfunction(papers.every_map))
 
     def test_the_class_and_its_methods(self):
         self.assertEqual(vars(graphs)["Graph"].__module__, "samebytes.graphs")

@@ -27,6 +27,43 @@ GRAPHS = """
 ((None, {'a': ('set', (3, ('at', 'b'))), 'b': ('list', ())}), ('list', (7,)))
 """
 
+TEXTS = r"""
+>>> from samebytes.graphs import Graph
+>>> from samebytes.texts import write
+>>> write(Graph('a', {'a': ('record', 'pair', (('left', ('at', 'b')), ('right', -5))), 'b': ('set', ('x', ('at', 'a')))}))
+"root a\na = record pair (left: @b, right: -5)\nb = set {'x', @a}"
+"""
+
+MAPS = """
+>>> from samebytes.graphs import Graph
+>>> from samebytes.maps import keeps
+>>> one = Graph('a', {'a': ('list', (('at', 'a'), 1))})
+>>> (keeps(one, one.renamed({'a': 'b'}), {'a': 'b'}), keeps(one, one, {}))
+(True, False)
+"""
+
+COLOURS = """
+>>> from samebytes.graphs import Graph
+>>> from samebytes.colours import classes
+>>> classes(Graph('a', {'a': ('set', (('at', 'b'), ('at', 'c'), ('at', 'd'))), 'b': ('list', ()), 'c': ('list', ()), 'd': ('list', (1,))}))
+[['a'], ['b', 'c'], ['d']]
+"""
+
+PAPERS = """
+>>> from samebytes.graphs import Graph
+>>> from samebytes.papers import is_same
+>>> one = Graph('a', {'a': ('set', (('at', 'b'), ('at', 'c'))), 'b': ('list', ()), 'c': ('list', ())})
+>>> other = Graph('x', {'x': ('set', (('at', 'y'),)), 'y': ('list', ())})
+>>> (is_same(one, other), is_same(one, one.renamed({'b': 'c', 'c': 'b'})), len(one))
+(False, True, 3)
+
+>>> from samebytes.graphs import Graph
+>>> from samebytes.papers import difference
+>>> one = Graph('a', {'a': ('list', (1,))})
+>>> difference(one, Graph('b', {'b': ('list', (2,))}))
+('bags', [({'a': 0}, {'b': 1})])
+"""
+
 
 class TestExamples(unittest.TestCase):
 
@@ -42,6 +79,18 @@ class TestExamples(unittest.TestCase):
     def test_graphs(self):
         self.run_examples("graphs", GRAPHS, 7)
 
+    def test_texts(self):
+        self.run_examples("texts", TEXTS, 3)
+
+    def test_maps(self):
+        self.run_examples("maps", MAPS, 4)
+
+    def test_colours(self):
+        self.run_examples("colours", COLOURS, 3)
+
+    def test_papers(self):
+        self.run_examples("papers", PAPERS, 9)
+
     def test_readme(self):
         path = pathlib.Path(__file__).resolve().parent.parent / "README.md"
-        self.run_examples("README", path.read_text(encoding="utf-8").replace("```", ""), 12)
+        self.run_examples("README", path.read_text(encoding="utf-8").replace("```", ""), 21)

@@ -13,6 +13,12 @@ BUILTINS = set("""len range enumerate zip min max sum abs sorted reversed int st
     isinstance ord repr any all divmod iter next map property staticmethod classmethod super Exception ValueError
     TypeError KeyError IndexError LookupError ZeroDivisionError ArithmeticError OverflowError RuntimeError
     NotImplementedError AttributeError StopIteration NotImplemented""".split())
+NO_ATTRIBUTES = set("""items keys values pop update append clear extend insert remove reverse setdefault sort args encode decode hex
+    fromhex format format_map mro root marks objects walk every_map register elements open input law type id""".split()) - {
+        "root", "marks", "objects", "walk"}
+NO_NAMES = set("""register mro elements open input law version_info with_traceback add_note attrgetter breakpoint builtins compile copyright
+    credits delattr dir eval exec exit gc getattr globals hasattr help id importlib license locals methodcaller os quit setattr type
+    vars sys enum Enum Flag Generic Protocol typing dataclass""".split())
 NOT_ALLOWED = (ast.Global, ast.AsyncFunctionDef, ast.AsyncFor, ast.AsyncWith, ast.Await, ast.Import, ast.TryStar)
 
 
@@ -66,6 +72,47 @@ class TestLanguage(unittest.TestCase):
             with self.subTest(path.name):
                 self.assertEqual((bound - methods) & builtin, set())
                 self.assertEqual((read - bound) & builtin - BUILTINS, set())
+
+    def test_attributes_and_methods(self):
+        for path, text in files():
+            tree = ast.parse(text)
+            told = {node.attr for node in ast.walk(tree) if isinstance(node, ast.Attribute) and isinstance(node.ctx, ast.Store)}
+            methods = {item.name for node in tree.body if isinstance(node, ast.ClassDef)
+                       for item in node.body if isinstance(item, ast.FunctionDef)}
+            with self.subTest(path.name):
+                self.assertEqual((told | methods) & NO_ATTRIBUTES, set())
+                self.assertEqual([name for name in told & methods], [])
+
+    def test_stars_and_generators(self):
+        for path, text in files():
+            for node in ast.walk(ast.parse(text)):
+                with self.subTest(path.name, line=getattr(node, "lineno", 0)):
+                    self.assertNotIsInstance(node, (ast.GeneratorExp, ast.Try))
+                    if isinstance(node, ast.Call):
+                        starred = [told.value for told in node.args if isinstance(told, ast.Starred)]
+                        self.assertTrue(all(isinstance(told, ast.Name) for told in starred))
+                        self.assertEqual([told for told in node.keywords if told.arg is None], [])
+                    if isinstance(node, ast.Attribute):
+                        self.assertNotIn(node.attr, ("sort", "__class__", "__name__"))
+
+    def test_words_that_may_not_occur(self):
+        for path, text in files():
+            words = {node.value for node in ast.walk(ast.parse(text)) if isinstance(node, ast.Constant) and isinstance(node.value, str)}
+            names = {node.id for node in ast.walk(ast.parse(text)) if isinstance(node, ast.Name)}
+            with self.subTest(path.name):
+                self.assertEqual(names & NO_NAMES, set())
+                self.assertEqual([word for word in words if "%" in word], [])
+
+    def test_imports_go_one_way(self):
+        told = {}
+        for path, text in files():
+            told[path.stem] = {node.module.split(".")[1] for node in ast.walk(ast.parse(text))
+                               if isinstance(node, ast.ImportFrom) and node.module.startswith("samebytes.")}
+        while told:
+            free = [name for name, others in told.items() if not others & set(told)]
+            self.assertTrue(free, told)
+            for name in free:
+                del told[name]
 
     def test_module_level(self):
         for path, text in files():
