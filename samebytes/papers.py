@@ -66,5 +66,5 @@ def all_carriers(graph, base):
         symmetries = Search(web, first_signs(graph, marked)).symmetries
         if not symmetries:
             return levels
-        levels.append(list(carriers(point, symmetries).values()))
+        levels.append(list(carriers(len(base), point, symmetries).values()))
     return levels

@@ -36,7 +36,7 @@ def all_branches(pair, marked, others, keys):
     for key in keys:
         if key not in branches:
             branches[key] = difference_paper(pair, marked, (*others, key))
-            images_of = carriers(names.index(key), symmetries)
+            images_of = carriers(len(names), names.index(key), symmetries)
             for point, images in images_of.items():
                 if names[point] != key:
                     branches[names[point]] = ("like", key, named(names, images))
@@ -78,11 +78,16 @@ def are_rounds(pair, marked, others, value):
     """Tell whether any value is a list of pairs of colourings that part no objects which look alike."""
     if not isinstance(value, list) or not all([are_colourings(pair, colourings) for colourings in value]):
         return False
-    before = pair.signs(marked, others)
-    seen = [0 for _ in before]
-    for first, second in value:
-        numbers = pair.joined(first, second)
-        if not are_alike_together(pair.web, before, seen, numbers):
+    rounds = [pair.joined(first, second) for first, second in value]
+    return are_right_rounds(pair.web, pair.signs(marked, others), rounds)
+
+
+def are_right_rounds(web, signs, rounds):
+    """Tell whether no list of numbers of the points parts any that are alike at first, or by the list before."""
+    before = signs
+    seen = [0 for _ in signs]
+    for numbers in rounds:
+        if not are_alike_together(web, before, seen, numbers):
             return False
         before = numbers
         seen = ranked(numbers)

@@ -190,11 +190,9 @@ def orbit(points, symmetries):
     return reached
 
 
-def carriers(point, symmetries):
-    """Return the dict from each point to which symmetries take a point to one, made of them, that takes it there."""
-    if not symmetries:
-        return {}
-    told = {point: list(range(len(symmetries[0])))}
+def carriers(size, point, symmetries):
+    """Return the dict from each point, of so many, to which symmetries take one to one, made of them, that does so."""
+    told = {point: list(range(size))}
     waiting = [point]
     while waiting:
         place = waiting.pop()

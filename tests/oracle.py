@@ -324,3 +324,118 @@ def shuffled(chance, graph):
 
 def chances(seed):
     return random.Random(seed)
+
+
+def shown_number(graph, value):
+    """The number that any value shows as a paper of the number of symmetries (10), or None if it is none."""
+    if not isinstance(value, list) or not value:
+        return None
+    marked, shown = (), 1
+    for level in value[:-1]:
+        if not is_level(graph, marked, level):
+            return None
+        marked, shown = (*marked, level[0]), shown * len(level[2])
+    if not is_tuple(value[-1], "alone", 2) or not are_right_colours(graph, marked, value[-1][1]):
+        return None
+    rounds = value[-1][1]
+    return shown if len(set(rounds[-1].values()) if rounds else {0}) == len(graph) else None
+
+
+def are_right_colours(graph, marked, rounds):
+    return isinstance(rounds, list) and all(is_right_colouring(graph, told) for told in rounds) and \
+        are_right_rounds(graph, graph, marked, marked, [(told, told) for told in rounds])
+
+
+def is_right_map(graph, images, marked):
+    if not isinstance(images, dict) or not all(isinstance(mark, str) for mark in [*images, *images.values()]):
+        return False
+    return sorted(images) == graph.marks and sorted(images.values()) == graph.marks and is_keeping(graph, graph, images, marked, marked)
+
+
+def is_level(graph, marked, level):
+    if not isinstance(level, tuple) or len(level) != 4:
+        return False
+    mark, rounds, maps, papers = level
+    if not isinstance(mark, str) or mark not in graph.marks or not are_right_colours(graph, marked, rounds):
+        return False
+    if not isinstance(maps, list) or not all(is_right_map(graph, images, marked) for images in maps):
+        return False
+    images = [told[mark] for told in maps]
+    if mark not in images or len(set(images)) < len(images) or not isinstance(papers, dict):
+        return False
+    others = [key for key in graph if key not in images and (not rounds or rounds[-1][key] == rounds[-1][mark])]
+    if not all(isinstance(key, str) for key in papers) or sorted(papers) != others:
+        return False
+    return all(is_paper(graph, graph, papers[key], (*marked, mark), (*marked, key)) for key in others)
+
+
+def any_count(chance, graph):
+    """Some paper of the number of symmetries of a graph, with other marks, rounds and more levels than are needed."""
+    levels, marked = [], ()
+    while True:
+        rounds = [first for first, _ in any_rounds(chance, graph, graph, marked, marked, 0)]
+        if len(set(rounds[-1].values())) == len(graph) and chance.random() < 0.7:
+            if len(graph) == 1 and chance.random() < 0.5:
+                rounds = []
+            return [*levels, ("alone", rounds)]
+        mark = chance.choice(graph.marks)
+        rounds = [first for first, _ in any_rounds(chance, graph, graph, marked, marked, chance.randrange(2))]
+        maps = {}
+        for images in chance.sample(all_maps(graph, graph, marked, marked), len(all_maps(graph, graph, marked, marked))):
+            maps[images[mark]] = images
+        others = [key for key in graph if key not in maps and (not rounds or rounds[-1][key] == rounds[-1][mark])]
+        papers = {key: any_paper(chance, graph, graph, (*marked, mark), (*marked, key), 1) for key in others}
+        levels.append((mark, rounds, list(maps.values()), papers))
+        marked = (*marked, mark)
+
+
+def all_made(graph, maps):
+    """All symmetries that some make up."""
+    told = {tuple(graph.marks)}
+    waiting = list(told)
+    while waiting:
+        images = waiting.pop()
+        for further in maps:
+            behind = tuple(further[mark] for mark in images)
+            if behind not in told:
+                told.add(behind)
+                waiting.append(behind)
+    return told
+
+
+def plain_pieces(graph):
+    """The pieces (13), in any order."""
+    reached = {mark: set(graph.part(mark).marks) for mark in graph}
+    return {tuple(sorted(other for other in reached[mark] if mark in reached[other])) for mark in graph}
+
+
+def port_list(graph, piece):
+    return sorted({worth[1] for mark in piece for worth in worths_of(graph[mark])
+                   if isinstance(worth, tuple) and worth[1] not in piece})
+
+
+def worths_of(thing):
+    if thing[0] in ("list", "set"):
+        return list(thing[1])
+    if thing[0] == "record":
+        return [worth for _, worth in thing[2]]
+    return [worth for entry in thing[1] for worth in entry]
+
+
+def is_showing(one, piece, other, target, images):
+    """Tell whether a map shows two pieces alike (13)."""
+    ports, further = port_list(one, piece), port_list(other, target)
+    if sorted(images) != sorted([*piece, *ports]) or sorted(images.values()) != sorted([*target, *further]):
+        return False
+    stay = {mark: mark for mark in other}
+    return sorted(images[mark] for mark in piece) == sorted(target) and \
+        all(moved(one[mark], images) == moved(other[images[mark]], stay) for mark in piece)
+
+
+def are_alike_pieces(one, piece, other, target):
+    """Tell whether two pieces are alike, by trying all maps."""
+    ports, further = port_list(one, piece), port_list(other, target)
+    if (len(piece), len(ports)) != (len(target), len(further)):
+        return False
+    return any(is_showing(one, piece, other, target, {**dict(zip(piece, first)), **dict(zip(ports, second))})
+               for first in itertools.permutations(target) for second in itertools.permutations(further))

@@ -4,16 +4,21 @@ import copy
 import itertools
 
 from samebytes.colours import classes, look_alike, rounds
-from samebytes.errors import BadArgument, BadMap, BadMark, BadMarked, UnknownMark
+from samebytes.errors import BadArgument, BadMap, BadMark, BadMarked, BadPiece, UnknownMark
+from samebytes.forms import numbering, one_text
 from samebytes.graphs import Graph
 from samebytes.maps import backwards, keeps, then
 from samebytes.papers import check_difference, difference, every_map, is_same, sameness
+from samebytes.pieces import alike_pieces, pieces, ports, shape
+from samebytes.symmetries import carried, check_number, families, made_by, number_paper, symmetries
 from samebytes.texts import write
-from tests.helpers import NO_DICTS, STRANGE, Case, at
+from tests.helpers import NO_DICTS, STRANGE, Case, at, rings
 
 ONE = Graph("a", {"a": ("set", (at("b"), at("c"), 5)), "b": ("list", ()), "c": ("list", ())})
 OTHER = Graph("z", {"z": ("set", (at("b"), 5, at("y"))), "b": ("list", ()), "y": ("list", ())})
 UNLIKE = Graph("z", {"z": ("dict", ((at("b"), at("y")),)), "b": ("list", ()), "y": ("list", ())})
+RINGS = rings([3, 4, 3])
+SWAP = {"a": "a", "b": "c", "c": "b"}
 KEPT = {"a": "z", "b": "b", "c": "y"}
 PAPER = ("bags", [({"a": 0, "b": 1, "c": 1}, {"z": 2, "b": 1, "y": 1})])
 
@@ -41,7 +46,11 @@ def no_colourings(graph):
     return [(BadMap, value) for value in NO_DICTS + wrong]
 
 
+NO_PIECES = [(BadPiece, value) for value in [value for value in STRANGE if value != ["a"]] +
+             [["a", "b"], ["b", "c"], ["d"], ["a", "a"], ("a",), "a", {"a"}, [["a"]], [at("a")], [1], ["A"], ["a", None]]]
+
 # Each function with right arguments in their order, and for each of them what is wrong in its place.
+GRAPH = ("graph", ONE, NO_GRAPHS)
 GRAPHS = [("one", ONE, NO_GRAPHS), ("other", OTHER, NO_GRAPHS)]
 MARKED = [("marked", ("b",), NO_MARKED), ("others", ("z",), NO_OTHERS)]
 COLOURED = [("one", ONE, NO_GRAPHS), ("first", {"a": 0, "b": 1, "c": 1}, no_colourings(ONE)), ("mark", "b", NO_MARKS + [(UnknownMark, "z")]),
@@ -59,6 +68,20 @@ CALLS = [
     (sameness, [*GRAPHS, *MARKED]),
     (difference, [*GRAPHS, *MARKED]),
     (check_difference, [*GRAPHS, ("value", PAPER, []), *MARKED]),
+    (difference, [("one", ONE, NO_GRAPHS), ("other", UNLIKE, NO_GRAPHS), *MARKED]),
+    (symmetries, [GRAPH, ("marked", ("a",), NO_MARKED)]),
+    (carried, [GRAPH, ("mark", "b", NO_MARKS), ("target", "c", NO_MARKS)]),
+    (families, [GRAPH, ("marked", ("a",), NO_MARKED)]),
+    (number_paper, [GRAPH]),
+    (number_paper, [("graph", RINGS, NO_GRAPHS)]),
+    (check_number, [GRAPH, ("number", 2, []), ("value", number_paper(ONE), [])]),
+    (made_by, [GRAPH, ("maps", [SWAP], [(BadMap, value) for value in [None, True, (), {}, "", (SWAP,), SWAP, [{}], [None], [SWAP, KEPT], ["a"]]])]),
+    (one_text, [GRAPH]),
+    (numbering, [GRAPH]),
+    (pieces, [GRAPH]),
+    (ports, [GRAPH, ("piece", ["a"], NO_PIECES)]),
+    (shape, [GRAPH, ("piece", ["a"], NO_PIECES)]),
+    (alike_pieces, [("one", ONE, NO_GRAPHS), ("piece", ["a"], NO_PIECES), ("other", OTHER, NO_GRAPHS), ("target", ["z"], NO_PIECES)]),
 ]
 GENERATORS = [(every_map, GRAPHS)]
 

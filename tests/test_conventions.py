@@ -2,7 +2,7 @@
 
 import inspect
 
-from samebytes import colours, graphs, maps, objects, papers, texts
+from samebytes import colours, forms, graphs, maps, objects, papers, pieces, symmetries, texts
 from samebytes.errors import GraphError
 from samebytes.graphs import Graph
 from samebytes.objects import ordered, places, references, replaced
@@ -10,7 +10,9 @@ from tests.helpers import Case, at
 
 LISTED = ["is_mark", "is_name", "is_plain", "is_worth", "is_object", "ordered", "references", "places", "replaced"]
 FURTHER = [(texts, ["write", "read"]), (maps, ["keeps", "then", "backwards"]), (colours, ["look_alike", "rounds", "classes"]),
-           (papers, ["is_same", "sameness", "difference", "check_difference", "every_map"])]
+           (papers, ["is_same", "sameness", "difference", "check_difference", "every_map"]), (forms, ["one_text", "numbering"]),
+           (symmetries, ["symmetries", "carried", "families", "number_paper", "check_number", "made_by"]),
+           (pieces, ["pieces", "ports", "shape", "alike_pieces"])]
 METHODS = ["root", "marks", "objects", "walk", "referrers", "part", "renamed", "__init__", "__getitem__",
            "__contains__", "__len__", "__iter__", "__eq__", "__call__", "__sub__", "__add__"]
 

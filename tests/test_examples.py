@@ -64,6 +64,38 @@ PAPERS = """
 ('bags', [({'a': 0}, {'b': 1})])
 """
 
+SYMMETRIES = """
+>>> from samebytes.graphs import Graph
+>>> from samebytes.symmetries import symmetries
+>>> symmetries(Graph('a', {'a': ('set', (('at', 'b'), ('at', 'c'), ('at', 'd'))), 'b': ('list', ()), 'c': ('list', ()), 'd': ('list', ())}))[0]
+6
+
+>>> from samebytes.graphs import Graph
+>>> from samebytes.symmetries import check_number
+>>> graph = Graph('a', {'a': ('set', (('at', 'b'), ('at', 'c'), ('at', 'd'))), 'b': ('list', ()), 'c': ('list', ()), 'd': ('list', ())})
+>>> stay = {'a': 'a', 'b': 'b', 'c': 'c', 'd': 'd'}
+>>> first = ('b', [{'a': 0, 'b': 1, 'c': 1, 'd': 1}], [stay, {'a': 'a', 'b': 'c', 'c': 'b', 'd': 'd'}, {'a': 'a', 'b': 'd', 'c': 'c', 'd': 'b'}], {})
+>>> second = ('c', [{'a': 0, 'b': 1, 'c': 2, 'd': 2}], [stay, {'a': 'a', 'b': 'b', 'c': 'd', 'd': 'c'}], {})
+>>> paper = [first, second, ('alone', [{'a': 0, 'b': 1, 'c': 2, 'd': 3}])]
+>>> (check_number(graph, 6, paper), check_number(graph, 3, paper))
+(True, False)
+"""
+
+FORMS = r"""
+>>> from samebytes.graphs import Graph
+>>> from samebytes.forms import one_text
+>>> one = Graph('b', {'b': ('list', (('at', 'a'), ('at', 'a'))), 'a': ('set', ())})
+>>> one_text(one)
+'root x0\nx0 = list [@x1, @x1]\nx1 = set {}'
+"""
+
+PIECES = """
+>>> from samebytes.graphs import Graph
+>>> from samebytes.pieces import pieces
+>>> pieces(Graph('a', {'a': ('list', (('at', 'b'), ('at', 'd'))), 'b': ('list', (('at', 'c'),)), 'c': ('set', (('at', 'b'), ('at', 'd'))), 'd': ('list', ())}))
+[['d'], ['b', 'c'], ['a']]
+"""
+
 
 class TestExamples(unittest.TestCase):
 
@@ -91,6 +123,15 @@ class TestExamples(unittest.TestCase):
     def test_papers(self):
         self.run_examples("papers", PAPERS, 9)
 
+    def test_symmetries(self):
+        self.run_examples("symmetries", SYMMETRIES, 11)
+
+    def test_forms(self):
+        self.run_examples("forms", FORMS, 4)
+
+    def test_pieces(self):
+        self.run_examples("pieces", PIECES, 3)
+
     def test_readme(self):
         path = pathlib.Path(__file__).resolve().parent.parent / "README.md"
-        self.run_examples("README", path.read_text(encoding="utf-8").replace("```", ""), 21)
+        self.run_examples("README", path.read_text(encoding="utf-8").replace("```", ""), 32)
