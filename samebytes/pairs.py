@@ -14,13 +14,13 @@ class Pair:
         self.other = other
         self.web = Web([graph_part(one), graph_part(other)])
 
-    def signs(self, marked, others):
+    def all_signs(self, marked, others):
         """Return for each point what tells it from others before all rounds."""
         return first_signs(self.one, marked) + first_signs(self.other, others)
 
     def rounds(self, marked, others):
         """Return the rounds as a list of pairs of colourings."""
-        return [self.parted(colours) for colours in all_rounds(self.web, self.signs(marked, others))]
+        return [self.parted(colours) for colours in all_rounds(self.web, self.all_signs(marked, others))]
 
     def parted(self, colours):
         """Return the pair of colourings that give the marks the colours of their points."""

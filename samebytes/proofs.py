@@ -79,7 +79,7 @@ def are_rounds(pair, marked, others, value):
     if not isinstance(value, list) or not all([are_colourings(pair, colourings) for colourings in value]):
         return False
     rounds = [pair.joined(first, second) for first, second in value]
-    return are_right_rounds(pair.web, pair.signs(marked, others), rounds)
+    return are_right_rounds(pair.web, pair.all_signs(marked, others), rounds)
 
 
 def are_right_rounds(web, signs, rounds):
@@ -126,7 +126,7 @@ def is_branch(pair, marked, others, branches, key):
     if head(value) != "like" or len(value) != 3:
         return is_difference_paper(pair, marked, (*others, key), value)
     _, like, images = value
-    # That the branch of the like one is right is told where its own turn comes.
-    if like not in pair.other or like == key or like not in branches or head(branches[like]) == "like":
+    # That the branch of the like one is right is told where its own turn comes. It is another one, as this is no paper.
+    if like not in pair.other or like not in branches or head(branches[like]) == "like":
         return False
     return is_kept(pair.other, pair.other, images, others, others) and images[like] == key

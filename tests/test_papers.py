@@ -206,8 +206,17 @@ class TestCheckDifference(Case):
                      {**without, like: None}, {**without, like: ()}, {**without, like: ("like", [key], images)}]
             self.assert_wrong(THREES, SIX, *[(word, told, mark, value) for value in wrong])
         # All of them like one another, and no paper.
-        _, _, images = branches[likes[0]]
+        images = {image: mark for mark, image in branches[likes[0]][2].items()}
         self.assert_wrong(THREES, SIX, (word, told, mark, {**branches, key: ("like", likes[0], images)}))
+        # What is like the root, which is no key, or like one that is like another one.
+        stay = {other: other for other in SIX}
+        self.assert_wrong(THREES, SIX, (word, told, mark, {**branches, likes[0]: ("like", "root", {**stay, "root": likes[0], likes[0]: "root"})}),
+                          (word, told, mark, {**branches, likes[0]: ("like", "root", stay)}), (word, told, mark, {**branches, None: branches[key]}),
+                          (word, told, mark, {**branches, 1: branches[key]}), (word, told, mark, {**branches, ("at", key): branches[key]}))
+        first, second = likes[:2]
+        images = {branches[first][2][other]: branches[second][2][other] for other in SIX}
+        self.assertEqual(images[first], second)
+        self.assert_wrong(THREES, SIX, (word, told, mark, {**branches, second: ("like", first, images)}))
 
     def test_each_branch_a_paper_of_its_own(self):
         paper, key = self.paper_of_rings()

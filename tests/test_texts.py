@@ -165,6 +165,10 @@ class TestRead(Case):
             with self.subTest(line):
                 self.assert_error(BadText, "line", 0, read, f"{line}\na = list []")
 
+    def test_wrong_signs_behind_a_mark(self):
+        for line in ("a : list []", "a @ list []", "a a list []", "a , list []", "a 1 list []", "a == list []", "a 'a' list []", "a list []"):
+            self.assert_error(BadText, "line", 1, read, f"root a\n{line}")
+
     def test_wrong_marks(self):
         for mark in ("1a", "A", "abcdefghi", "'a'", "@a", "a b", "a-", "-", "", "a,b", "(a)", "1", "\u00e9", "a'"):
             with self.subTest(mark):
