@@ -16,7 +16,9 @@ def symmetries(graph, marked=()):
     check_graph(graph)
     check_marked(graph, marked)
     search = search_of(graph, marked)
-    return (number_of(search), [named(graph.marks, images) for images in search.symmetries])
+    # Each symmetry is to be reached by carrying out some of them, also if there is one alone.
+    found = search.symmetries or [list(range(len(graph)))]
+    return (number_of(search), [named(graph.marks, images) for images in found])
 
 
 def carried(graph, mark, target):

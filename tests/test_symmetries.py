@@ -39,6 +39,7 @@ class TestSymmetries(Case):
         told, maps = symmetries(graph, marked)
         self.assert_exactly(told, number)
         self.assertIs(maps.__class__, list)
+        self.assertNotEqual(maps, [])
         for images in maps:
             self.assertIs(keeps(graph, graph, images, marked, marked), True)
         return maps
@@ -48,6 +49,10 @@ class TestSymmetries(Case):
             maps = self.assert_symmetries(graph, number)
             if number <= 5040:
                 self.assert_exactly(made_by(graph, maps), number)
+
+    def test_one_alone(self):
+        for graph, marked in ((chain_graph(1), ()), (chain_graph(5), ("a1",)), (twins(2), ("t0",)), (rings([4], False), ("root", "a2"))):
+            self.assert_exactly(symmetries(graph, marked), (1, [{mark: mark for mark in graph}]))
 
     def test_great_graphs(self):
         numbers = [symmetries(graph)[0] for graph in great_graphs()]
@@ -256,6 +261,9 @@ class TestCheckNumber(Case):
         # Without rounds all others need a paper: those that no map takes t1 to are unlike it.
         papers = {"root": difference(graph, graph, ("t1",), ("root",))}
         self.assert_right(graph, 6, [(first[0], [], first[2], papers), second, end])
+        for key in (None, 1, "t9", ("at", "t1"), "t2", "t1"):
+            self.assert_wrong(graph, 6, [(first[0], [], first[2], {**papers, key: papers["root"]}), second, end],
+                              [(first[0], [], first[2], {key: papers["root"]}), second, end])
         papers = {mark: difference(graph, graph, ("t1", "t2"), ("t1", mark)) for mark in ("root", "t1")}
         self.assert_right(graph, 6, [first, (second[0], [], second[2], papers), end])
         self.assert_wrong(graph, 6, [(first[0], [], first[2], {}), second, end], [first, (second[0], [], second[2], {}), end], [second, first, end],
