@@ -3,7 +3,7 @@
 from samebytes.checks import check_graph
 from samebytes.errors import BadText
 from samebytes.graphs import Graph
-from samebytes.objects import is_mark, is_object, is_plain, is_spelled
+from samebytes.objects import is_mark, is_object, is_spelled
 
 BRACKETS = {"record": "()", "list": "[]", "set": "{}", "dict": "{}"}
 SIGNS = "=:,@()[]{}"
@@ -112,7 +112,7 @@ def read_object(words):
         return None
     parts = parted(rest[1:-1], ",") if len(rest) > 2 else []
     thing = (*head, tuple([read_part(kind, part) for part in parts]))
-    # A part that could not be read is None, and makes that no object of it.
+    # A part that is not right, or could not be read and is None, makes that no object of it.
     return thing if is_object(thing) else None
 
 
@@ -129,15 +129,13 @@ def read_part(kind, words):
 
 
 def read_worth(words):
-    """Return the worth that words tell, or None."""
-    if len(words) == 2 and words[0] == "@" and is_mark(words[1]):
+    """Return the worth that words tell, or None, or something of a worth's form whose mark or text is not right."""
+    if len(words) == 2 and words[0] == "@":
         return ("at", words[1])
     if len(words) != 1:
         return None
     word = words[0]
-    if word[0] == "'":
-        return word[1:-1] if is_plain(word[1:-1]) else None
-    return read_integer(word)
+    return word[1:-1] if word[0] == "'" else read_integer(word)
 
 
 def read_integer(word):

@@ -4,6 +4,7 @@ import itertools
 
 from samebytes.colours import classes, look_alike, rounds
 from samebytes.graphs import Graph
+from samebytes.objects import references
 from tests import oracle
 from tests.helpers import HUGE, Case, at, chain_graph
 
@@ -20,6 +21,17 @@ def referring(*things):
     lists = {mark: ("list", ()) for mark in ("t", "u", "v")}
     root = ("list", tuple(at(mark) for mark in [*marks, "t", "u", "v"]))
     return Graph("r", {"r": root, **dict(zip(marks, things)), **lists})
+
+
+def tied(thing, further):
+    """A graph with an object x to which others refer in many ways, and so many further objects n0, n1 and so on."""
+    sources = {"fa": ("record", "p", (("a", at("x")),)), "fb": ("record", "p", (("b", at("x")),)), "ia": ("list", (at("x"),)), "ib": ("list", (0, at("x"))),
+               "me": ("set", (at("x"),)), "ka": ("dict", ((at("x"), 1),)), "kb": ("dict", ((at("x"), 2),)), "wa": ("dict", ((1, at("x")),)),
+               "wb": ("dict", ((2, at("x")),)), "kr": ("dict", ((at("x"), at("kw")),)), "wr": ("dict", ((at("wk"), at("x")),))}
+    ends = {mark: ("list", ()) for mark in ("kw", "wk", *references(thing), *(f"n{index}" for index in range(further)))}
+    near = [mark for mark in ends if mark[0] != "n"]
+    root = ("set", (at("more"), *map(at, sources), *map(at, near)))
+    return Graph("r", {"r": root, "x": thing, "more": ("set", tuple(at(mark) for mark in ends if mark[0] == "n")), **sources, **ends})
 
 
 def numbers(graph, **told):
@@ -112,6 +124,21 @@ class TestLookAlike(Case):
             self.assert_referred(True, things, others, {"u": 4}, {"v": 4})
             self.assert_referred(False, things, others, {"u": 4}, {"v": 3})
             self.assert_referred(False, things, others, {"u": 4}, {"u": 4})
+
+    def test_no_two_ways_are_mixed_up(self):
+        things = [("record", "q", (("a", at("oa")), ("b", at("ob")))), ("list", (at("oa"), at("ob"))), ("set", (at("oa"),)),
+                  ("dict", ((1, at("oa")), (2, at("ob")), (at("oc"), 1), (at("od"), 2), (at("ok"), at("ow"))))]
+        beside = {"kr": "kw", "kw": "kr", "wr": "wk", "wk": "wr", "ok": "ow", "ow": "ok"}
+        for thing in things:
+            one, other = tied(thing, 20), tied(thing, 0)
+            places = {f"n{index}": index for index in range(20)}
+            ends = sorted({mark for mark in other if mark not in ("r", "x", "more")})
+            for first, second in itertools.combinations(ends, 2):
+                for number in range(20 if first in beside or second in beside else 1):
+                    told = {beside[mark]: number for mark in (first, second) if mark in beside}
+                    here, there = {**told, first: 1, second: 2}, {**told, first: 2, second: 1}
+                    self.assertIs(look_alike(one, numbers(one, **places, **here), "x", other, numbers(other, **there), "x"), False)
+            self.assertIs(look_alike(one, numbers(one, **places), "x", other, numbers(other), "x"), True)
 
     def test_own_numbers_do_not_count(self):
         self.assert_referred(True, [], [], {"t": 1}, {"t": 2})
