@@ -1,13 +1,20 @@
 """Checks of the arguments that stand in many calls: each raises the error for a value that is wrong."""
 
-from samebytes.errors import BadArgument, BadMarked
+from samebytes.errors import BadArgument, BadMarked, BadName
 from samebytes.graphs import Graph
+from samebytes.objects import is_name
 
 
 def check_graph(value):
     """Raise the error for any value that is no graph."""
     if not isinstance(value, Graph):
         raise BadArgument(value)
+
+
+def check_name(value):
+    """Raise the error for any value that is no name."""
+    if not is_name(value):
+        raise BadName(value)
 
 
 def check_marked(graph, marked):

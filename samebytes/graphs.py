@@ -54,14 +54,7 @@ class Graph:
 
     def __call__(self, path):
         """Return the worth at which the steps of a path end that begins at the root."""
-        if not isinstance(path, tuple):
-            raise BadSteps(path)
-        worth = ("at", self._root)
-        for index, step in enumerate(path):
-            worth = worth_at(self._things[worth[1]], step) if isinstance(worth, tuple) else None
-            if worth is None:
-                raise NoPlace(index)
-        return worth
+        return followed(path, self._root, lambda mark: self._things[mark])
 
     def walk(self):
         """Go through all marks, depth first."""
@@ -91,7 +84,8 @@ class Graph:
         if not isinstance(other, Graph):
             raise BadArgument(other)
         root = None if self._root == other._root else self._root
-        return (root, {mark: thing for mark, thing in self._things.items() if other._things.get(mark) != thing})
+        changed = [mark for mark in self._marks if mark not in other or other[mark] != self._things[mark]]
+        return (root, {mark: self._things[mark] for mark in changed})
 
     def __add__(self, other):
         if not is_change(other):
@@ -101,6 +95,18 @@ class Graph:
             root = self._root
         # What cannot be reached goes first: a graph counts, and asks for, only what is left.
         return Graph(root, those_reached(root, {**self._things, **objects}))
+
+
+def followed(path, root, thing_of):
+    """Return the worth at which the steps of a path end that begins at a root; a function tells the objects."""
+    if not isinstance(path, tuple):
+        raise BadSteps(path)
+    worth = ("at", root)
+    for index, step in enumerate(path):
+        worth = worth_at(thing_of(worth[1]), step) if isinstance(worth, tuple) else None
+        if worth is None:
+            raise NoPlace(index)
+    return worth
 
 
 def is_change(value):

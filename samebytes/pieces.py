@@ -27,9 +27,7 @@ def shape(graph, piece):
     """Return the text that a piece has in common with exactly the pieces that are alike to it."""
     check_graph(graph)
     check_piece(graph, piece)
-    search, names = piece_search(graph, piece)
-    order = [names[point] for point in search.order()]
-    return shape_text(graph, order[:len(piece)], order[len(piece):])
+    return placed_piece(graph, piece)[0]
 
 
 def alike_pieces(one, piece, other, target):
@@ -86,6 +84,15 @@ def piece_search(graph, piece):
     web = Web([(names, {mark: graph[mark] for mark in objects})])
     signs = [(0, ()) if place < len(objects) else (1, ()) for place in range(len(names))]
     return (Search(web, signs), names)
+
+
+def placed_piece(graph, piece):
+    """Return the shape of a piece, and the marks of its objects and those of its ports, in the order of the shape."""
+    search, names = piece_search(graph, piece)
+    order = [names[point] for point in search.order()]
+    objects = order[:len(piece)]
+    further = order[len(piece):]
+    return (shape_text(graph, objects, further), objects, further)
 
 
 def shape_text(graph, objects, further):
