@@ -7,11 +7,15 @@ from samebytes.colours import classes, look_alike, rounds
 from samebytes.errors import BadArgument, BadMap, BadMark, BadMarked, BadPiece, UnknownMark
 from samebytes.forms import numbering, one_text
 from samebytes.graphs import Graph
+from samebytes.journals import check_sum, journal
 from samebytes.maps import backwards, keeps, then
+from samebytes.merges import check_merge, clashes, merge
+from samebytes.nearest import cost, cost_bound, nearest
 from samebytes.papers import check_difference, difference, every_map, is_same, sameness
 from samebytes.pieces import alike_pieces, pieces, ports, shape
 from samebytes.symmetries import carried, check_number, families, made_by, number_paper, symmetries
 from samebytes.texts import write
+from samebytes.versions import History
 from tests.helpers import NO_DICTS, STRANGE, Case, at, rings
 
 ONE = Graph("a", {"a": ("set", (at("b"), at("c"), 5)), "b": ("list", ()), "c": ("list", ())})
@@ -82,6 +86,34 @@ CALLS = [
     (ports, [GRAPH, ("piece", ["a"], NO_PIECES)]),
     (shape, [GRAPH, ("piece", ["a"], NO_PIECES)]),
     (alike_pieces, [("one", ONE, NO_GRAPHS), ("piece", ["a"], NO_PIECES), ("other", OTHER, NO_GRAPHS), ("target", ["z"], NO_PIECES)]),
+]
+# Of two graphs that come from ONE, and of two that clash at b and at the root.
+HERE = ONE + (None, {"b": ("list", (1,)), "a": ("set", (at("b"), at("c"), 5, 6))})
+THERE = ONE + (None, {"c": ("dict", ((1, at("a")),)), "a": ("set", (at("b"), at("c")))})
+MERGED = [("base", ONE, NO_GRAPHS), ("one", HERE, NO_GRAPHS), ("other", THERE, NO_GRAPHS)]
+CLASHING = [("base", ONE, NO_GRAPHS), ("one", HERE, NO_GRAPHS), ("other", ONE + ("n", {"n": ("list", (at("a"),)), "b": ("set", ())}), NO_GRAPHS)]
+HISTORY = History()
+HISTORY.commit(ONE)
+HISTORY.commit(HERE, (0,))
+
+
+def objects_and_paper(base, one, other):
+    graph, paper = merge(base, one, other)
+    return (graph.root, graph.objects, paper)
+
+
+CALLS += [
+    (cost, [*GRAPHS, ("value", {"a": "z", "b": "b"}, NO_MAPS + [(BadMap, {"z": "a"}), (BadMap, {"a": "z", "b": "z"})])]),
+    (nearest, GRAPHS),
+    (nearest, [("one", ONE, NO_GRAPHS), ("other", UNLIKE, NO_GRAPHS)]),
+    (cost_bound, [("one", RINGS, NO_GRAPHS), ("other", OTHER, NO_GRAPHS)]),
+    (objects_and_paper, MERGED),
+    (clashes, MERGED),
+    (clashes, CLASHING),
+    (check_merge, [*MERGED, ("value", merge(ONE, HERE, THERE)[0], []), ("paper", merge(ONE, HERE, THERE)[1], [])]),
+    (check_merge, [*CLASHING, ("value", HERE, []), ("paper", {}, [])]),
+    (check_sum, [("index", 3, []), ("line", "0 root a", [])]),
+    (journal, [("history", HISTORY, NO_GRAPHS + [(BadArgument, ONE), (BadArgument, History)])]),
 ]
 GENERATORS = [(every_map, GRAPHS)]
 

@@ -96,6 +96,83 @@ PIECES = """
 [['d'], ['b', 'c'], ['a']]
 """
 
+STORES = """
+>>> from samebytes.graphs import Graph
+>>> from samebytes.stores import Store
+>>> store = Store()
+>>> store.put('one', Graph('a', {'a': ('record', 'pair', (('left', ('at', 'b')), ('right', ('at', 'b')))), 'b': ('list', ())}))
+>>> store.put('two', Graph('a', {'a': ('record', 'pair', (('left', ('at', 'b')), ('right', ('at', 'c')))), 'b': ('list', ()), 'c': ('list', ())}))
+>>> (len(store.shapes), len(store.occurrences('one')), len(store.occurrences('two')))
+(3, 2, 3)
+"""
+
+VIEWS = """
+>>> from samebytes.graphs import Graph
+>>> from samebytes.stores import Store
+>>> from samebytes.views import View
+>>> store = Store()
+>>> store.put('one', Graph('a', {'a': ('list', (('at', 'b'), ('at', 'c'))), 'b': ('list', (5,)), 'c': ('list', ())}))
+>>> view = View(store, 'one')
+>>> (view((0, 0)), view.loaded)
+(5, [['a'], ['b']])
+"""
+
+EDITS = r"""
+>>> from samebytes.graphs import Graph
+>>> from samebytes.edits import Editor
+>>> editor = Editor(Graph('a', {'a': ('set', (1, 2))}))
+>>> editor.drop_member('a', 1)
+>>> editor.carry_out((None, {'a': ('list', (('at', 'b'), 7)), 'b': ('set', ())}))
+>>> editor.set_item('a', 0, 'x')
+>>> (editor.graph.marks, len(editor), editor.text)
+(['a'], 3, "root x0\nx0 = list ['x', 7]")
+"""
+
+NEAREST = """
+>>> from samebytes.graphs import Graph
+>>> from samebytes.nearest import nearest
+>>> one = Graph('a', {'a': ('set', (('at', 'b'), ('at', 'c'))), 'b': ('list', ()), 'c': ('list', (1,))})
+>>> other = Graph('x', {'x': ('set', (('at', 'y'), ('at', 'z'))), 'y': ('list', ()), 'z': ('list', (2,))})
+>>> nearest(one, other)
+(1, {'a': 'x', 'b': 'y', 'c': 'z'})
+"""
+
+MERGES = """
+>>> from samebytes.graphs import Graph
+>>> from samebytes.merges import merge
+>>> base = Graph('a', {'a': ('record', 'pair', (('left', 1), ('right', 2)))})
+>>> one = Graph('a', {'a': ('record', 'pair', (('left', 7), ('right', 2)))})
+>>> other = Graph('a', {'a': ('record', 'pair', (('left', 1), ('right', ('at', 'b')))), 'b': ('set', ())})
+>>> merge(base, one, other)[0]['a']
+('record', 'pair', (('left', 7), ('right', ('at', 'b'))))
+"""
+
+VERSIONS = """
+>>> from samebytes.graphs import Graph
+>>> from samebytes.versions import History
+>>> history = History()
+>>> told = (history.commit(Graph('a', {'a': ('set', (1,))})), history.commit(Graph('a', {'a': ('set', (1, 2))}), (0,)), history.commit(Graph('a', {'a': ('set', ())}), (0,)))
+>>> (history.merge(1, 2), history[3]['a'], history.common(3, 2))
+(3, ('set', (2,)), 2)
+"""
+
+JOURNALS = """
+>>> from samebytes.graphs import Graph
+>>> from samebytes.versions import History
+>>> from samebytes.journals import journal, recover
+>>> history = History()
+>>> told = history.commit(Graph('a', {'a': ('set', (1,))}))
+>>> (len(journal(history)), recover(journal(history)) == (history, 0), recover(journal(history)[:-1])[1])
+(55, True, 54)
+"""
+
+CONSOLE = """
+>>> from samebytes.console import Console
+>>> console = Console()
+>>> [console.execute(line) for line in ('new root a; a = set {@b, @c}; b = list []; c = list []', 'symmetries', 'pieces', 'new root z; z = set {@y, @x}; x = list []; y = list []', 'same 0')]
+['0', '2', 'b c a', '1', 'same']
+"""
+
 
 class TestExamples(unittest.TestCase):
 
@@ -132,6 +209,30 @@ class TestExamples(unittest.TestCase):
     def test_pieces(self):
         self.run_examples("pieces", PIECES, 3)
 
+    def test_stores(self):
+        self.run_examples("stores", STORES, 6)
+
+    def test_views(self):
+        self.run_examples("views", VIEWS, 7)
+
+    def test_edits(self):
+        self.run_examples("edits", EDITS, 7)
+
+    def test_nearest(self):
+        self.run_examples("nearest", NEAREST, 5)
+
+    def test_merges(self):
+        self.run_examples("merges", MERGES, 6)
+
+    def test_versions(self):
+        self.run_examples("versions", VERSIONS, 5)
+
+    def test_journals(self):
+        self.run_examples("journals", JOURNALS, 6)
+
+    def test_console(self):
+        self.run_examples("console", CONSOLE, 3)
+
     def test_readme(self):
         path = pathlib.Path(__file__).resolve().parent.parent / "README.md"
-        self.run_examples("README", path.read_text(encoding="utf-8").replace("```", ""), 32)
+        self.run_examples("README", path.read_text(encoding="utf-8").replace("```", ""), 73)

@@ -87,7 +87,7 @@ class TestLanguage(unittest.TestCase):
         for path, text in files():
             for node in ast.walk(ast.parse(text)):
                 with self.subTest(path.name, line=getattr(node, "lineno", 0)):
-                    self.assertNotIsInstance(node, (ast.GeneratorExp, ast.Try))
+                    self.assertNotIsInstance(node, ast.GeneratorExp)
                     if isinstance(node, ast.Call):
                         starred = [told.value for told in node.args if isinstance(told, ast.Starred)]
                         self.assertTrue(all(isinstance(told, ast.Name) for told in starred))
