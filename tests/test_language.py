@@ -95,6 +95,44 @@ class TestLanguage(unittest.TestCase):
                     if isinstance(node, ast.Attribute):
                         self.assertNotIn(node.attr, ("sort", "__class__", "__name__"))
 
+    def test_own_errors_alone_are_caught_and_raised_on_the_spot(self):
+        errors = {node.name for node in ast.parse((FOLDER / "errors.py").read_text(encoding="utf-8")).body if isinstance(node, ast.ClassDef)}
+        for path, text in files():
+            for node in ast.walk(ast.parse(text)):
+                with self.subTest(path.name, line=getattr(node, "lineno", 0)):
+                    if isinstance(node, ast.Try):
+                        self.assertEqual((node.finalbody, node.orelse), ([], []))
+                    if isinstance(node, ast.ExceptHandler):
+                        caught = node.type.elts if isinstance(node.type, ast.Tuple) else [node.type]
+                        self.assertLessEqual({name.id for name in caught}, errors)
+                        self.assertIsNone(node.name)
+                    if isinstance(node, ast.Raise):
+                        self.assertIn(node.exc.func.id, errors | {"TypeError"})
+                        self.assertIsNone(node.cause)
+
+    def test_what_is_read_changes_nothing(self):
+        # Operators and properties, and all that they call, change just what they make themselves (L5).
+        called = {}
+        for _, text in files():
+            for node in ast.walk(ast.parse(text)):
+                if isinstance(node, ast.FunctionDef):
+                    called.setdefault(node.name, []).append(node)
+        properties = {name for name, nodes in called.items() for node in nodes if node.decorator_list}
+        waiting = [name for name in called if name.startswith("__") and name not in ("__init__", "__call__", "__enter__", "__exit__")] + list(properties)
+        seen = set()
+        while waiting:
+            name = waiting.pop()
+            if name in seen or name not in called:
+                continue
+            seen.add(name)
+            for node in [inner for outer in called[name] for inner in ast.walk(outer)]:
+                with self.subTest(name, line=getattr(node, "lineno", 0)):
+                    if isinstance(node, ast.Call):
+                        waiting.append(node.func.id if isinstance(node.func, ast.Name) else node.func.attr)
+                    if isinstance(node, ast.Attribute):
+                        self.assertNotIsInstance(node.ctx, (ast.Store, ast.Del))
+                    self.assertNotIsInstance(node, (ast.AugAssign, ast.Delete))
+
     def test_words_that_may_not_occur(self):
         for path, text in files():
             words = {node.value for node in ast.walk(ast.parse(text)) if isinstance(node, ast.Constant) and isinstance(node.value, str)}

@@ -387,13 +387,18 @@ class TestChecker(Case):
 
     def test_it_does_not_believe_what_claims_to_be_equal(self):
         class Sly:
+            def __init__(self, word="object"):
+                self.word = word
+
             def __eq__(self, other):
                 return True
 
             def __hash__(self):
-                return hash("object")
+                return hash(self.word)
         for mark, words in self.paper.items():
             self.assertIs(self.told(self.graph, {**self.paper, mark: Sly()}), False)
+            rest = {other: told for other, told in self.paper.items() if other != mark}
+            self.assertIs(self.told(self.graph, {**rest, Sly(mark): words}), False)
             for place in words:
                 self.assertIs(self.told(self.graph, {**self.paper, mark: {**words, place: Sly()}}), False)
             rest = {place: word for place, word in words.items() if place != OBJECT}
